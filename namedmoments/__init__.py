@@ -1,0 +1,1 @@
+"""Namedmoments: what runs down and grows, at all moments at once."""
