@@ -59,6 +59,13 @@ def less(one, other):
     return one[0] * other[1] < other[0] * one[1]
 
 
+def sign_of(integer):
+    """The sign of an integer."""
+    if integer == 0:
+        return 0
+    return 1 if integer > 0 else -1
+
+
 def integer_power(base, many):
     """An integer, so many times with itself multiplied."""
     power = 1

@@ -1,9 +1,10 @@
 """What several tests need: odd things to pass, and another way to reckon with curves."""
 
+from decimal import MAX_EMAX, MIN_EMIN, Decimal, localcontext
 from fractions import Fraction
 from math import gcd
 
-from namedmoments.curves import Curve, plus, times
+from namedmoments.curves import Curve, plus, stretched, times
 
 NIL = (0, 1)
 UNIT = (1, 1)
@@ -111,3 +112,56 @@ def power(curve, doublings):
 def many_terms():
     """A curve of more terms than callers may pass, with greater k and other q."""
     return plus(times(SMALL[8], SMALL[9]), times(SMALL[7], SMALL[7]))
+
+
+def rate(q):
+    """e ^ (q t), q being whatever Fraction takes."""
+    return curve_of({(0, q): 1})
+
+
+def curve_of(worths):
+    """The curve of a dict of each c by its (k, q), of whatever Fraction takes."""
+    total = Curve(())
+    for (k, q), c in worths.items():
+        q = Fraction(q)
+        if c == 0:
+            continue
+        part = Curve(((pair(Fraction(c)), k % 4, NIL),))
+        for _ in range(k // 4):
+            part = times(part, times(Curve(((UNIT, 3, NIL),)), Curve(((UNIT, 1, NIL),))))
+        if q != 0:
+            part = times(part, stretched(Curve(((UNIT, 0, UNIT),)), pair(q)))
+        total = plus(total, part)
+    return total
+
+
+def less_fraction(fraction):
+    """t less a fraction."""
+    return curve_of({(1, 0): 1, (0, 0): -Fraction(fraction)})
+
+
+def product(curves):
+    """The product of some curves, 1 of none."""
+    whole = Curve(((UNIT, 0, NIL),))
+    for curve in curves:
+        whole = times(whole, curve)
+    return whole
+
+
+def no_numbers(most):
+    """Things that are no integers from 0 to most."""
+    return odd_things() + [-1, -10 ** 29, most + 1, 10 ** 29, (1, 1), (0, 1), NIL, [0], (0,)]
+
+
+def decimal_worth(curve, fraction, digits):
+    """What a curve is worth at a fraction, by other means, to so many digits more or less."""
+    with localcontext() as context:
+        context.prec = digits
+        context.Emax, context.Emin = MAX_EMAX, MIN_EMIN
+        total = Decimal(0)
+        place = Decimal(fraction.numerator) / Decimal(fraction.denominator)
+        for c, k, q in curve.terms:
+            part = Decimal(c[0]) / Decimal(c[1]) * place ** k if k else Decimal(c[0]) / Decimal(c[1])
+            raised = worth(q) * fraction
+            total += part * (Decimal(raised.numerator) / Decimal(raised.denominator)).exp()
+        return total

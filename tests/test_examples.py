@@ -2,18 +2,35 @@
 
 import unittest
 
+from namedmoments.common import bare, common, quotient
 from namedmoments.curves import Curve, at_nought, slope
+from namedmoments.signs import sign_at
 from namedmoments.texts import curve_text
+
+o, one = (0, 1), (1, 1)
 
 
 class Examples(unittest.TestCase):
 
     def test_e01(self):
-        o, one = (0, 1), (1, 1)
         f = Curve((((-2, 1), 0, o), ((-1, 1), 1, o), (one, 0, one)))
         self.assertEqual(curve_text(f), "-2 - t + e^(1)")
         self.assertEqual(slope(f).terms, (((-1, 1), 0, (0, 1)), ((1, 1), 0, (1, 1))))
         self.assertEqual(at_nought(f), (-1, 1))
+
+    def test_e02(self):
+        f = Curve((((-2, 1), 0, o), ((-1, 1), 1, o), (one, 0, one)))
+        self.assertEqual(sign_at(f, (5, 4)), 1)
+
+    def test_e03(self):
+        g = Curve((((-1, 1), 2, o), (one, 0, one)))
+        h = Curve(((one, 1, o), (one, 0, (1, 2))))
+        self.assertEqual(common(g, h), h)
+        self.assertEqual(quotient(g, h).terms, (((-1, 1), 1, (0, 1)), ((1, 1), 0, (1, 2))))
+
+    def test_e04(self):
+        found = bare(Curve((((6, 1), 0, o), ((-3, 1), 2, o), ((-2, 1), 0, one), (one, 2, one))))
+        self.assertEqual(found.terms, (((-2, 1), 0, (0, 1)), ((1, 1), 2, (0, 1))))
 
 
 if __name__ == "__main__":

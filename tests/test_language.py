@@ -5,7 +5,7 @@ import unittest
 from pathlib import Path
 
 FOLDER = Path(__file__).resolve().parent.parent / "namedmoments"
-LIBRARY = ("math",)
+LIBRARY = ("heapq", "math")
 
 
 class Language(unittest.TestCase):
