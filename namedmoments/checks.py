@@ -24,10 +24,15 @@ def check_bottoms(curves):
         raise TooMany(MOST_MULTIPLE)
 
 
+def is_near(thing, farthest):
+    """Whether a thing is a fraction from -farthest to farthest."""
+    if not is_fraction(thing):
+        return False
+    top, bottom = thing
+    return abs(top) <= farthest * bottom
+
+
 def check_near(thing):
     """Raise NoFraction unless a thing is a fraction from -1000 to 1000."""
-    if not is_fraction(thing):
-        raise NoFraction()
-    top, bottom = thing
-    if abs(top) > FARTHEST * bottom:
+    if not is_near(thing, FARTHEST):
         raise NoFraction()

@@ -73,6 +73,11 @@ def plain(curve):
     return trimmed(quotient(curve, common(curve, slope(curve))))
 
 
+def is_plain(curve):
+    """Whether a curve that is not nought everywhere is plain."""
+    return common(curve, slope(curve)).terms == ((UNIT, 0, NIL),)
+
+
 def bare(curve):
     """The greatest trimmed curve with no q but 0 that divides a curve."""
     check_some(curve)

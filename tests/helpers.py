@@ -5,6 +5,7 @@ from fractions import Fraction
 from math import gcd
 
 from namedmoments.curves import Curve, plus, stretched, times
+from namedmoments.moments import Moment, finer
 
 NIL = (0, 1)
 UNIT = (1, 1)
@@ -165,3 +166,34 @@ def decimal_worth(curve, fraction, digits):
             raised = worth(q) * fraction
             total += part * (Decimal(raised.numerator) / Decimal(raised.denominator)).exp()
         return total
+
+
+def ends(moment):
+    """The ends of a moment as Fractions."""
+    return worth(moment.low), worth(moment.high)
+
+
+def check_name(case, moment):
+    """That something is a Moment that a caller could have made."""
+    case.assertIs(moment.__class__, Moment)
+    check_form(case, moment.curve)
+    for fraction in (moment.low, moment.high):
+        case.assertIs(fraction.__class__, tuple)
+        case.assertEqual(pair(worth(fraction)), fraction)
+    case.assertEqual(Moment(moment.curve, moment.low, moment.high), moment)
+
+
+def log_pair(number, digits=60):
+    """Two Fractions, very close, between which the logarithm of a Fraction is."""
+    with localcontext() as context:
+        context.prec = digits
+        close = Fraction((Decimal(number.numerator) / Decimal(number.denominator)).ln())
+    gap = Fraction(1, 10 ** (digits - 5))
+    return close - gap, close + gap
+
+
+def check_near_to(case, moment, low, high):
+    """That a moment may be what lies between two Fractions, as far as its finest ends tell."""
+    start, end = ends(finer(moment, 18))
+    case.assertLess(start, high)
+    case.assertLess(low, end)

@@ -4,6 +4,9 @@ import unittest
 
 from namedmoments.common import bare, common, quotient
 from namedmoments.curves import Curve, at_nought, slope
+from namedmoments.moments import polynomial_of
+from namedmoments.noughts import noughts
+from namedmoments.rows import Row
 from namedmoments.signs import sign_at
 from namedmoments.texts import curve_text
 
@@ -20,13 +23,20 @@ class Examples(unittest.TestCase):
 
     def test_e02(self):
         f = Curve((((-2, 1), 0, o), ((-1, 1), 1, o), (one, 0, one)))
+        self.assertEqual(len(noughts(f)), 2)
+        self.assertEqual([polynomial_of(m) for m in noughts(f)], [None, None])
         self.assertEqual(sign_at(f, (5, 4)), 1)
+        self.assertEqual([Row((f,)).signs(cell) for cell in range(5)], [(1,), (0,), (-1,), (0,), (1,)])
+        self.assertEqual([Row([f, slope(f)]).signs(cell) for cell in (0, 3, 6)], [(1, -1), (-1, 0), (1, 1)])
 
     def test_e03(self):
         g = Curve((((-1, 1), 2, o), (one, 0, one)))
         h = Curve(((one, 1, o), (one, 0, (1, 2))))
         self.assertEqual(common(g, h), h)
         self.assertEqual(quotient(g, h).terms, (((-1, 1), 1, (0, 1)), ((1, 1), 0, (1, 2))))
+        # h divides g, and the other factor, -t + e^(1/2), is nowhere nought
+        self.assertEqual((len(noughts(g)), len(noughts(h)), len(noughts(quotient(g, h)))), (1, 1, 0))
+        self.assertEqual(len(Row([g, h]).moments()), 1)
 
     def test_e04(self):
         found = bare(Curve((((6, 1), 0, o), ((-3, 1), 2, o), ((-2, 1), 0, one), (one, 2, one))))
