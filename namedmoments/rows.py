@@ -16,7 +16,9 @@ class Row:
     """Some curves, the moments at which some of them is nought, and the signs of all of them."""
 
     def __init__(self, curves):
-        check_curves(curves)
+        if not are_curves(curves, 1, MOST_CURVES) or has_nought(curves):
+            raise NoCurves()
+        check_bottoms(list(curves))
         self.curves = tuple(curves)
         self.marked = ascending(marked_places(self.curves))
         self.table = table_of(self.curves, self.marked)
@@ -45,13 +47,16 @@ class Row:
         return 2 * len(self.marked)
 
 
-def check_curves(thing):
-    """Raise NoCurves, or TooMany, unless a thing is a tuple or list of curves of which a row can be."""
-    if not isinstance(thing, (tuple, list)) or not 1 <= len(thing) <= MOST_CURVES:
-        raise NoCurves()
-    if not all([isinstance(curve, Curve) and len(curve.terms) > 0 for curve in thing]):
-        raise NoCurves()
-    check_bottoms(list(thing))
+def are_curves(thing, least, most):
+    """Whether a thing is a tuple or list of so many curves."""
+    if not isinstance(thing, (tuple, list)) or not least <= len(thing) <= most:
+        return False
+    return all([isinstance(curve, Curve) for curve in thing])
+
+
+def has_nought(curves):
+    """Whether one of some curves is nought everywhere."""
+    return any([len(curve.terms) == 0 for curve in curves])
 
 
 def marked_places(curves):

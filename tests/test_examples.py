@@ -4,9 +4,11 @@ import unittest
 
 from namedmoments.common import bare, common, quotient
 from namedmoments.curves import Curve, at_nought, slope
+from namedmoments.flows import Flow, content, fullest
 from namedmoments.moments import polynomial_of
 from namedmoments.noughts import noughts
 from namedmoments.rows import Row
+from namedmoments.sayings import decided, when
 from namedmoments.signs import sign_at
 from namedmoments.texts import curve_text
 
@@ -41,6 +43,17 @@ class Examples(unittest.TestCase):
     def test_e04(self):
         found = bare(Curve((((6, 1), 0, o), ((-3, 1), 2, o), ((-2, 1), 0, one), (one, 2, one))))
         self.assertEqual(found.terms, (((-2, 1), 0, (0, 1)), ((1, 1), 2, (0, 1))))
+
+    def test_e05(self):
+        f = Curve((((-2, 1), 0, o), ((-1, 1), 1, o), (one, 0, one)))
+        later = ("some", "y", ("and", ("ahead", "x", "y"), ("is", 0, "y", 0)))
+        self.assertIs(decided((f,), ("some", "x", ("and", ("is", 0, "x", 0), later))), True)
+        self.assertEqual(when((f,), ("is", 0, "x", -1), "x"), [2])
+
+    def test_e06(self):
+        w = Flow((one, o), ((0, 1, (2, 1)), (1, -1, one)))
+        self.assertEqual(curve_text(content(w, 1)), "-2 e^(-2) + 2 e^(-1)")
+        self.assertEqual(len(fullest(w, 1)), 1)
 
 
 if __name__ == "__main__":
