@@ -16,12 +16,15 @@ def is_dyadic(number):
     return number[1] & (number[1] - 1) == 0
 
 
-def middle_of(low, high):
-    """A fraction of few figures in the middle half of a stretch, its bottom a power of 2."""
+def place_between(low, high, step, grain):
+    """A fraction of few figures, its bottom a power of 2, at the beginning of a cell between two fractions.
+
+    It is no more than that of the cell of the number step, of 2 ^ grain, and less than 1/4 of a cell less.
+    """
     gap, under = added(high, negated(low))
-    shift = max(0, under.bit_length() - gap.bit_length() + 3)
-    total, bottom = added(low, high)
-    return ratio((total << shift) // (2 * bottom), 1 << shift)
+    top, bottom = added(low, ratio(gap * step, under << grain))
+    shift = max(0, under.bit_length() - gap.bit_length() + grain + 3)
+    return ratio((top << shift) // bottom, 1 << shift)
 
 
 def is_narrow(low, high, bits):
@@ -39,7 +42,7 @@ def bits_to_spare(low, high, bits):
 def halved(drawn, stretch):
     """A stretch within another one, at most 3/4 as long."""
     low, high, ahead = stretch
-    middle = middle_of(low, high)
+    middle = place_between(low, high, 1, 1)
     sign = sign_there(drawn, middle)
     if sign == 0:
         return close_around(middle, stretch, 0)
@@ -89,15 +92,13 @@ def narrowed(drawn, stretch, bits):
 
 def cell_of_guess(drawn, ends, grain):
     """The two ends, pairs of a fraction and its worth, of the cell in which the nought may be."""
-    (low, at_low), (high, at_high) = ends
-    gap, under = added(high, negated(low))
-    place = place_of_guess(at_low, at_high, grain)
+    place = place_of_guess(ends[0][1], ends[1][1], grain)
     cell = []
     for step, known in ((place, ends[0]), (place + 1, ends[1])):
         if step == 0 or step == 1 << grain:
             cell.append(known)
         else:
-            number = added(low, ratio(gap * step, under << grain))
+            number = place_between(ends[0][0], ends[1][0], step, grain)
             cell.append((number, worth_at(drawn, number, 2 * grain + 4)))
     return cell
 

@@ -1,26 +1,24 @@
 """What grids [division] are worth at fractions, and their signs over stretches.
 
-A drawn grid is a triple (bottom, lines, most): with y = e ^ (t / bottom), which is above 0,
-it is the sum of its lines, pairs (j, parts), times y ^ j, a line being the sum of its parts,
-pairs (k, worth), k descending, times t ^ k; most is its greatest k.
+A drawn grid is a triple (bottom, lines, places): with y = e ^ (t / bottom), which is above 0,
+it is the sum of its lines, pairs (j, parts), j ascending, times y ^ j, a line being the sum of
+its parts, pairs (k, worth), times t ^ k; places is the ascending list of all k.
 """
 
 from namedmoments.checks import rate_bottom
 from namedmoments.grids import grid_of, lines_of
 from namedmoments.ratios import common_bottom, integer_power, ratio, sign_of
-from namedmoments.spans import e_span, multiple_span, power_span, rounded, sum_span
+from namedmoments.spans import e_span, multiple_span, power_span, product_span, rounded, sum_span
 
 SPARE_BITS = 48
 
 
 def drawn_of(grid, bottom):
     """A drawn grid that has, wherever it is, the sign of a grid that is not empty."""
-    least = min(list(grid))[0]
-    lines = []
-    for j, line in lines_of(grid).items():
-        parts = [(k, line[k]) for k in sorted(list(line), reverse=True)]
-        lines.append((j - least, parts))
-    return (bottom, lines, max([k for _, k in grid]))
+    lines = lines_of(grid)
+    steps = sorted(list(lines))
+    drawn = [(j - steps[0], [(k, worth) for k, worth in lines[j].items()]) for j in steps]
+    return (bottom, drawn, sorted(set([k for _, k in grid])))
 
 
 def drawn_curve(curve):
@@ -32,20 +30,33 @@ def drawn_curve(curve):
     return drawn_of(grid, bottom)
 
 
-def line_worth(parts, number, most):
-    """What a line is worth at a fraction, times the fraction's bottom as often as most tells."""
-    top, bottom = number
-    total = 0
-    scale = 1
-    above = most
-    for k, worth in parts:
-        gap = above - k
-        if gap > 0:
-            total = total * integer_power(top, gap)
-            scale = scale * integer_power(bottom, gap)
-        total = total + worth * scale
+def scales_at(places, number):
+    """A dict by k of the fraction's k-th power, times its bottom as often as the greatest k tells."""
+    top, under = number
+    scales = {}
+    power, above = 1, 0
+    for k in places:
+        power = power * (top if k == above + 1 else integer_power(top, k - above))
+        scales[k] = power
         above = k
-    return total * integer_power(top, above)
+    power = 1
+    for k in reversed(places):
+        power = power * (under if k == above - 1 else integer_power(under, above - k))
+        scales[k] = scales[k] * power
+        above = k
+    return scales
+
+
+def rate_powers(rate, steps, bits):
+    """A list of the spans of a power of what a span tells for each of some steps, ascending numbers."""
+    powers = []
+    power, behind = (1, 1, 0), 0
+    for j in steps:
+        if j > behind:
+            power = product_span(power, rate if j == behind + 1 else power_span(rate, j - behind, bits), bits)
+        powers.append(power)
+        behind = j
+    return powers
 
 
 def worth_at(drawn, number, good):
@@ -53,18 +64,20 @@ def worth_at(drawn, number, good):
 
     It has the right sign, 0 too; if the fraction's bottom is a power of 2, it has so many good bits.
     """
-    bottom, lines, most = drawn
-    worths = [(j, line_worth(parts, number, most)) for j, parts in lines]
+    bottom, lines, places = drawn
+    scales = scales_at(places, number)
+    worths = [(j, sum([worth * scales[k] for k, worth in parts])) for j, parts in lines]
     # e to unlike fractions never cancel out, so what is left is not 0, but perhaps at 0
     worths = [(j, worth) for j, worth in worths if worth != 0]
     top, under = number
-    back = most * (under.bit_length() - 1)
+    back = places[-1] * (under.bit_length() - 1)
     if len(worths) == 0 or top == 0:
         return (sum([worth for _, worth in worths]), -back)
     bits = good + under.bit_length() + SPARE_BITS
     while True:
         rate = e_span(ratio(top, under * bottom), bits)
-        spans = [multiple_span(power_span(rate, j, bits), worth, bits) for j, worth in worths]
+        powers = rate_powers(rate, [j for j, _ in worths], bits)
+        spans = [multiple_span(power, worth, bits) for power, (_, worth) in zip(powers, worths)]
         low, high, shift = sum_span(spans, bits)
         if (low > 0 or high < 0) and (high - low) << good <= abs(low + high):
             return (low + high, shift - 1 - back)
@@ -81,21 +94,25 @@ def stretch_sign(drawn, low, high, bits):
 
     The stretch, between two fractions, has 0 at most as an end.
     """
-    bottom, lines, most = drawn
+    bottom, lines, places = drawn
     under = common_bottom([low, high])
-    ends = [(low[0] * (under // low[1]), under), (high[0] * (under // high[1]), under)]
+    tops = [end[0] * (under // end[1]) for end in (low, high)]
     if low[0] < 0:
-        ends = [(-top, under) for top, _ in reversed(ends)]
+        # odd powers of t are below 0 there
+        lines = [(j, [(k, -worth if k & 1 else worth) for k, worth in parts]) for j, parts in lines]
+        tops = [-tops[1], -tops[0]]
+    near, far = scales_at(places, (tops[0], under)), scales_at(places, (tops[1], under))
     rate = joined(e_span(ratio(low[0], low[1] * bottom), bits), e_span(ratio(high[0], high[1] * bottom), bits))
+    powers = rate_powers(rate, [j for j, _ in lines], bits)
     spans = []
-    for j, parts in lines:
-        if low[0] < 0:
-            parts = [(k, -worth if k & 1 else worth) for k, worth in parts]
-        spans.append(line_span(parts, ends, most, power_span(rate, j, bits), bits))
-    least, greatest, _ = sum_span(spans, bits)
-    if least > 0:
+    for power, (_, parts) in zip(powers, lines):
+        least = sum([worth * (near[k] if worth > 0 else far[k]) for k, worth in parts])
+        greatest = sum([worth * (far[k] if worth > 0 else near[k]) for k, worth in parts])
+        spans.append(signed_span(least, greatest, power, bits))
+    low_sum, high_sum, _ = sum_span(spans, bits)
+    if low_sum > 0:
         return 1
-    return -1 if greatest < 0 else 0
+    return -1 if high_sum < 0 else 0
 
 
 def joined(one, other):
@@ -104,14 +121,7 @@ def joined(one, other):
     return (one[0] << (one[2] - shift), other[1] << (other[2] - shift), shift)
 
 
-def line_span(parts, ends, most, rate, bits):
-    """A span of a line between two fractions from 0 on, times what the span rate tells."""
-    rising = [(k, worth) for k, worth in parts if worth > 0]
-    falling = [(k, worth) for k, worth in parts if worth < 0]
-    near, far = ends
-    low = line_worth(rising, near, most) + line_worth(falling, far, most)
-    high = line_worth(rising, far, most) + line_worth(falling, near, most)
-    least, greatest, shift = rate
-    low = low * (least if low >= 0 else greatest)
-    high = high * (greatest if high >= 0 else least)
-    return rounded(low, high, shift, bits)
+def signed_span(least, greatest, power, bits):
+    """A span of what is between two integers times what a span, not below 0, tells."""
+    low, high, shift = power
+    return rounded(least * (low if least >= 0 else high), greatest * (high if greatest >= 0 else low), shift, bits)

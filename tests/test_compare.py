@@ -103,8 +103,11 @@ class Compare(Case):
                 curve = product([less_fraction(x + 2 * gap), less_fraction(x), less_fraction(x + gap), TWO])
                 found = [moment for moment in noughts(curve) if compare(moment, at(pair(x - 1))) > 0]
                 found = [moment for moment in found if compare(moment, at(pair(x + 1))) < 0]
-                for one, other in zip(names, [moment for moment in found if fraction_of(moment)]):
-                    self.assertEqual(compare(one, other), 0)
+                found = [moment for moment in found if fraction_of(moment)]
+                for index, one in enumerate(names):
+                    for place, other in enumerate(found):
+                        order = (index > place) - (index < place)
+                        self.assertEqual((compare(one, other), compare(other, one)), (order, -order))
 
     def test_close_to_logarithms(self):
         for number in [2, 3, 7]:
