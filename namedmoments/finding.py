@@ -12,6 +12,7 @@ from namedmoments.worths import drawn_curve, sign_there
 # where all moments lie that come into play
 LOWEST = (-1000, 1)
 HIGHEST = (1000, 1)
+MORE_TERMS = 2
 
 
 def nought_places(curve):
@@ -36,7 +37,7 @@ def is_nought_at(curve, number):
 def parts_of(curve):
     """Curves whose product is a plain curve, but for some c t ^ k e ^ (q t), and that are not 1.
 
-    Where there are such, one is without e, one without t, and one is the rest.
+    Where there are such of few terms, one is without e, one without t, and one is the rest.
     """
     least = min([k for _, k, _ in curve.terms])
     curve = gathered([(c, k - least, q) for c, k, q in curve.terms])
@@ -49,7 +50,10 @@ def parts_of(curve):
         row[j] = worth
     shared = line_content(list(rows.values()))
     without_t = curve_of({(j, 0): worth for j, worth in shared.items()}, bottom, UNIT, NIL)
-    return [part for part in (without_e, without_t, quotient(rest, without_t)) if len(part.terms) > 1]
+    parts = [part for part in (without_e, without_t, quotient(rest, without_t)) if len(part.terms) > 1]
+    # few terms may have a part in common that leaves many
+    many = sum([len(part.terms) for part in parts])
+    return parts if many <= len(curve.terms) + MORE_TERMS else [curve]
 
 
 def places_between(curve, low, high):

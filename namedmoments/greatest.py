@@ -25,9 +25,14 @@ def drawn_common(one, other):
     """The greatest grid that divides two grids with least j and least k 0."""
     if len(one) == 1 or len(other) == 1:
         return {(0, 0): 1}
-    if have_coprime_images(one, other):
-        lines = list(lines_of(one).values()) + list(lines_of(other).values())
-        return {(0, k): worth for k, worth in line_content(lines).items()}
+    # with fewer powers of t than of y, it is seen sooner that no t divides both
+    if max([k for _, k in one]) < max([j for j, _ in one]):
+        rows = pure_common(turned(one), turned(other))
+        if rows is not None:
+            return {(j, 0): worth for j, worth in rows.items()}
+    lines = pure_common(one, other)
+    if lines is not None:
+        return {(0, k): worth for k, worth in lines.items()}
     # the same as in core_common, with t in the place of the letter
     bits = bits_above([one, other]) + SPARE_BITS
     while True:
@@ -40,6 +45,18 @@ def drawn_common(one, other):
         if grid_quotient(one, found) is not None and grid_quotient(other, found) is not None:
             return found
         bits = bits * 2
+
+
+def pure_common(one, other):
+    """The greatest line in t that divides two grids, or None where something with a j but 0 may divide them."""
+    if not have_coprime_images(one, other):
+        return None
+    return line_content(list(lines_of(one).values()) + list(lines_of(other).values()))
+
+
+def turned(grid):
+    """A grid with its j and its k in each other's place."""
+    return {(k, j): worth for (j, k), worth in grid.items()}
 
 
 def line_at(grid, bits):

@@ -270,6 +270,15 @@ class Common(Case):
         self.same(common(times(one, both), times(other, both)), both)
         self.same(common(one, other), ONE)
 
+    def test_steps_far_away_with_few_powers(self):
+        for both in [plus(rate(Fraction(1, 4)), Curve((((-3, 1), 0, NIL),))), less_one(rate(300)), less_fraction(Fraction(1, 7)),
+                     plus(times(T, rate(Fraction(1001, 4))), ONE)]:
+            one = plus(plus(rate(900), T), ONE)
+            other = plus(plus(rate(-700), times(T, T)), rate(Fraction(1, 4)))
+            self.same(common(times(one, both), times(other, both)), trimmed(both))
+            self.same(common(times(one, times(both, both)), times(other, both)), trimmed(both))
+            self.same(common(times(rate(1000), both), times(other, both)), trimmed(both))
+
     def test_bottoms_together(self):
         halves = plus(plus(T, rate(Fraction(1, 2))), ONE)
         quarters = plus(rate(Fraction(1, 4)), less_fraction(2))

@@ -288,6 +288,10 @@ class FractionOf(Case):
         names += noughts(read_curve("-1 - t + t^3")) + noughts(plus(power(T, 6), curve_of({(0, 0): -2})))
         names += noughts(plus(power(T, 6), curve_of({(0, 1): -2})))
         names += noughts(curve_of({(2, 0): 10 ** 29, (0, 0): -10 ** 29 - 1}))
+        # ends close to each other, and between them a fraction at which the curve is not nought
+        names += [Moment(read_curve("-3 + t^2"), (8, 5), (41, 20)), Moment(read_curve("-3 + t^2"), (-41, 20), (-8, 5)),
+                  Moment(read_curve("-101 + 100 t^2"), (999, 1000), (201, 200)),
+                  Moment(read_curve("-8 + 2 t^3"), (3, 2), (17, 10))]
         for moment in names:
             self.assertIsNone(fraction_of(moment))
 

@@ -250,6 +250,21 @@ class Great(Case):
         self.assertEqual(len(noughts(plus(plus(rate(1000), rate(-1000)), curve_of({(0, 0): -3})))), 2)
 
 
+    def test_far_rates(self):
+        origin = close_to(Fraction(0))
+        # what stands beside t and what stands beside 1 have e ^ (t / 2) + 1 in common
+        one = curve_of({(3, "-147/2"): -9, (2, -1): 10, (3, -1): -4, (3, 1): -5, (2, "357/2"): 10})
+        self.check(one, [origin] * 2)
+        other = curve_of({(3, 4): 3, (2, "3191/4"): -5, (1, "1727/4"): 7, (1, 601): -11, (2, "-1/4"): 2, (3, "-3183/4"): 1})
+        found = noughts(other)
+        self.check_signs(other, found, [times_nought(other, moment) for moment in found])
+        self.assertEqual(len(found), 2)
+        both = times(less_fraction(Fraction(-1, 500)), plus(rate(-700), curve_of({(0, 300): -2, (1, 0): 1})))
+        found = noughts(times(both, both))
+        self.assertEqual([times_nought(times(both, both), moment) for moment in found], [2] * len(found))
+        self.assertIn((-1, 500), [fraction_of(moment) for moment in found])
+
+
 def power_of_t(many):
     """t, so many times with itself multiplied."""
     return product([T] * many)

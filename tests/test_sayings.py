@@ -194,6 +194,33 @@ class Order(Case):
         self.so((T,), ("some", "x", ("some", "x", ("and", ("is", 0, "x", 0), ("is", 0, "x", 1)))), False)
 
 
+class Within(Case):
+
+    def test_each_part_is_told_by_itself(self):
+        so, not_so = ("some", "x", ("same", "x", "x")), ("all", "x", ("ahead", "x", "x"))
+        for parts in tuples((so, not_so), repeat=4):
+            worths = [part == so for part in parts]
+            for words in tuples(("and", "or"), repeat=3):
+                pair_of = [(words[1], parts[0], parts[1]), (words[2], ("not", parts[2]), ("not", ("not", parts[3])))]
+                both = [worths[0] and worths[1], not worths[2] and worths[3]]
+                either = [worths[0] or worths[1], not worths[2] or worths[3]]
+                told = [either[n] if words[n + 1] == "or" else both[n] for n in range(2)]
+                expected = any(told) if words[0] == "or" else all(told)
+                self.so((), (words[0], *pair_of), expected)
+                self.so((), (words[0], *reversed(pair_of)), expected)
+
+    def test_within_all_and_some(self):
+        so, not_so = ("some", "x", ("same", "x", "x")), ("all", "x", ("ahead", "x", "x"))
+        for parts in tuples((so, not_so), repeat=3):
+            worths = [part == so for part in parts]
+            for word in ("all", "some"):
+                self.so((), ("and", ("or", parts[0], parts[1]), (word, "y", parts[2])), (worths[0] or worths[1]) and worths[2])
+                for inner in [("and", parts[0], (word, "y", parts[1])), ("and", (word, "y", parts[1]), parts[0])]:
+                    self.so((), ("or", inner, parts[2]), worths[0] and worths[1] or worths[2])
+                    self.so((), ("or", parts[2], inner), worths[0] and worths[1] or worths[2])
+                    self.so((), inner, worths[0] and worths[1])
+
+
 class Signs(Case):
 
     def test_one_curve(self):
