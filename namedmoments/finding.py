@@ -1,5 +1,6 @@
 """Finding all places at which a curve is nought."""
 
+from namedmoments.boxes import turns_in_boxes
 from namedmoments.checks import rate_bottom
 from namedmoments.common import bare, plain, quotient
 from namedmoments.curves import at_nought, gathered
@@ -7,12 +8,17 @@ from namedmoments.grids import curve_of, grid_of, line_content
 from namedmoments.ladders import turns_between
 from namedmoments.places import SOON, ascending, closer, place_at, place_of
 from namedmoments.ratios import NIL, UNIT
+from namedmoments.rungs import most_rungs
 from namedmoments.worths import drawn_curve, sign_there
 
 # where all moments lie that come into play
 LOWEST = (-1000, 1)
 HIGHEST = (1000, 1)
 MORE_TERMS = 2
+# a ladder of so few rungs, or of so few for each part, is sooner gone down than boxes are made
+SHORT = 40
+DENSE = 3
+MORE_BOXES = 10
 
 
 def nought_places(curve):
@@ -60,7 +66,13 @@ def places_between(curve, low, high):
     """The list of the places between two fractions, but 0, at which a plain curve is nought."""
     bottom = rate_bottom([curve])
     grid, _, _ = grid_of(curve, bottom)
-    return [place_of(curve, start, end) for start, end, _ in turns_between(grid, bottom, low, high)]
+    rungs = most_rungs(grid)
+    turns = None
+    if rungs > max(SHORT, DENSE * len(grid)):
+        turns = turns_in_boxes(grid, bottom, low, high, MORE_BOXES * rungs)
+    if turns is None:
+        turns = turns_between(grid, bottom, low, high)
+    return [place_of(curve, start, end) for start, end, _ in turns]
 
 
 def noughts_between(curve, low, high):

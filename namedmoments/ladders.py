@@ -19,7 +19,11 @@ def turns_between(grid, bottom, low, high):
 
     No two stretches share more than an end, and none holds 0, but perhaps as an end.
     """
-    rungs = rungs_of(grid, bottom)
+    return turns_by(rungs_of(grid, bottom), bottom, low, high)
+
+
+def turns_by(rungs, bottom, low, high):
+    """The same by its rungs, of which the last one turns nowhere between the two fractions but at 0."""
     found = []
     for index in range(len(rungs) - 2, -1, -1):
         found = turns_of(rungs[index][0], rungs[index + 1], bottom, breaks_of(found, low, high))

@@ -4,10 +4,18 @@ import unittest
 from decimal import Decimal, localcontext
 from fractions import Fraction
 
+from namedmoments.boxes import turns_in_boxes
+from namedmoments.checks import rate_bottom
 from namedmoments.common import common, plain, quotient
 from namedmoments.curves import plus, times
+from namedmoments.grids import grid_of
+from namedmoments.ladders import turns_between
+from namedmoments.narrowing import narrowed
+from namedmoments.reading import read_curve
 from namedmoments.resultants import resultant_and_factor
+from namedmoments.rungs import without_nought
 from namedmoments.spans import e_span, small_e_span, span_ends
+from namedmoments.worths import drawn_of
 from tests.helpers import curve_of, pair, product, rate
 from tests.test_common import ONE, T, less_one
 
@@ -18,6 +26,42 @@ def expanded(curves):
         return product(curves)
     half = len(curves) // 2
     return times(expanded(curves[:half]), expanded(curves[half:]))
+
+
+class Turns(unittest.TestCase):
+
+    def check(self, curve, low, high):
+        """That boxes and the ladder tell the same turns."""
+        bottom = rate_bottom([curve])
+        grid, _, _ = grid_of(curve, bottom)
+        drawn = drawn_of(without_nought(grid)[0], bottom)
+        found = [[narrowed(drawn, stretch, 70) for stretch in turns] for turns in (
+            turns_between(grid, bottom, low, high), turns_in_boxes(grid, bottom, low, high, 10 ** 5))]
+        self.assertEqual(len(found[0]), len(found[1]))
+        for one, other in zip(*found):
+            self.assertEqual(one[2], other[2])
+            self.assertLess(Fraction(*one[0]), Fraction(*other[1]))
+            self.assertLess(Fraction(*other[0]), Fraction(*one[1]))
+        return len(found[0])
+
+    def test_boxes_and_ladders(self):
+        gap = Fraction(1, 10 ** 20)
+        close = product([less_one(curve_of({(1, 0): 1, (0, 0): n * gap})) for n in (-1, 0, 1)])
+        for curve, many in [
+                (read_curve("-2 - t + e^(1)"), 2), (read_curve("-1 - t + e^(1)"), 0), (read_curve("-1 - t - 1/2 t^2 + e^(1)"), 0),
+                (times(close, read_curve("-7 + e^(1)")), 4), (times(close, read_curve("t - 3 e^(1/4)")), 3),
+                (read_curve("3 t^3 e^(-4) - 5 t e^(-8/3) + 7 t^2 e^(-1/3) - 100 + 2 t^3 + 3 t e^(1) - 4 t^2 e^(7/3) + e^(4)"), 1),
+                (product([read_curve("-1 + e^(1/3)"), read_curve("-1 - t + e^(1)"), read_curve("-3 - t + e^(1/3)")]), 2),
+                (plus(curve_of({(20, 0): 1}), rate(-1)), 0), (curve_of({(20, 0): 1, (0, -1): -1}), 3), (read_curve("5 e^(-2)"), 0), (read_curve("t^3"), 0)]:
+            self.assertEqual(self.check(curve, (-1000, 1), (1000, 1)), many)
+            self.check(curve, (-7, 3), (5, 2))
+            self.check(curve, (0, 1), (10 ** 29, 10 ** 28 - 1))
+            self.check(curve, (-1000, 1), (0, 1))
+
+    def test_not_enough_boxes(self):
+        grid, _, _ = grid_of(read_curve("-2 - t + e^(1)"), 1)
+        self.assertIsNone(turns_in_boxes(grid, 1, (-1000, 1), (1000, 1), 1))
+        self.assertIsNone(turns_in_boxes(grid, 1, (-1000, 1), (1000, 1), 0))
 
 
 class Divisors(unittest.TestCase):

@@ -250,6 +250,20 @@ class Great(Case):
         self.assertEqual(len(noughts(plus(plus(rate(1000), rate(-1000)), curve_of({(0, 0): -3})))), 2)
 
 
+    def test_products_of_many_powers_and_rates(self):
+        for parts in [[{(61, 2): 3, (3, -3): -1}, {(2, -4): 5, (1, "-3/2"): 1, (2, -1): -2}, {(1, "-1/2"): 1, (11, 0): -3, (73, "1/2"): 2}],
+                      [{(88, "3/4"): 1, (1, "5/4"): -1, (6, "3/2"): 2}, {(3, "-7/2"): 1, (1, 2): -2}, {(0, 0): -3, (1, 0): 1}],
+                      [{(87, 2): 1, (0, 3): -7, (33, 3): 1}, {(2, -3): 1, (1, -1): 2, (0, 3): -1}, {(6, -1): 1, (2, 0): -4}]]:
+            parts = [curve_of(part) for part in parts]
+            both = times(product(parts), parts[0])
+            found = noughts(both)
+            counts = [times_nought(both, moment) for moment in found]
+            self.check_signs(both, found, counts)
+            self.assertEqual(counts, [sum([times_nought(part, moment) for part in parts + parts[:1]]) for moment in found])
+            for part in parts:
+                for moment in noughts(part):
+                    self.assertEqual([compare(moment, other) for other in found].count(0), 1)
+
     def test_far_rates(self):
         origin = close_to(Fraction(0))
         # what stands beside t and what stands beside 1 have e ^ (t / 2) + 1 in common
